@@ -1,0 +1,1 @@
+"""Tribunal: accountable Byzantine agreement on a chain of blocks."""
