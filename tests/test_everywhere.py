@@ -19,6 +19,23 @@ FUNCTIONS = {
         "is_vote": ["statement"],
         "clash": ["one", "other"],
     },
+    "wire": {"letter_line": ["letter"], "read_letter": ["line"]},
+    "plain": {
+        "certified": ["committee", "letters", "height", "turn", "block"],
+        "committed": ["committee", "letters", "height", "turn", "block"],
+    },
+    "journal": {"restore": ["who", "lines"]},
+    "court": {"holds": ["charge"], "charge_of": ["letters", "who"], "charges": ["committee", "letters"]},
+    "paper": {
+        "shows": ["committee", "height", "block", "letters"],
+        "shown_turn": ["committee", "height", "block", "letters"],
+        "commit_paper": ["book", "block"],
+        "accuse": ["committee", "height", "one", "other"],
+    },
+    "commands": {
+        "commands_of": ["block"], "command_text": ["command"], "checked_text": ["command"], "block_of": ["commands"],
+    },
+    "machine": {"run": ["code", "given", "amount", "store"]},
 }
 CLASSES = {
     "errors": {
@@ -34,6 +51,25 @@ CLASSES = {
             "leader": ["self", "height", "turn"],
         },
     },
+    "book": {
+        "Book": {
+            "__init__": ["self", "committee", "height"],
+            "add": ["self", "letter"],
+            "letters": ["self"],
+            "has_certificate": ["self", "turn", "block"],
+            "latest": ["self", "block", "turn"],
+        },
+    },
+    "journal": {
+        "Journal": {
+            "__init__": ["self", "who"],
+            "sign": ["self", "statement"],
+            "last_turn": ["self", "height"],
+            "lines": ["self"],
+        },
+    },
+    "court": {"Charge": {"__init__": ["self", "who", "first", "second"]}},
+    "machine": {"Run": {}},
 }
 LIBRARY = {"heapq", "math", "itertools", "collections"}
 OUTSIDE = {
@@ -84,6 +120,49 @@ class Interface(unittest.TestCase):
         self.assertIs(votes.clash(one=one, other=other), True)
         self.assertIs(votes.is_vote(statement=votes.proposal(height=1, turn=0, block="a")), False)
 
+    def test_arguments_of_letters_books_and_journals_by_their_names(self):
+        letter = module("wire").read_letter(line="0 prevote 4 0 a -")
+        self.assertEqual(module("wire").letter_line(letter=letter), "0 prevote 4 0 a -")
+        alone = module("committee").Committee([1])
+        book = module("book").Book(committee=alone, height=4)
+        self.assertIs(book.add(letter=letter), True)
+        self.assertIs(book.has_certificate(turn=0, block="a"), True)
+        self.assertEqual(book.latest(block="a", turn=1), 0)
+        asked = {"committee": alone, "letters": [letter], "height": 4, "turn": 0, "block": "a"}
+        self.assertIs(module("plain").certified(**asked), True)
+        self.assertIs(module("plain").committed(**asked), False)
+        journal = module("journal").Journal(who=0)
+        self.assertEqual(journal.sign(statement=letter[1]), letter)
+        self.assertEqual(journal.last_turn(height=4), 0)
+        self.assertEqual(module("journal").restore(who=0, lines=journal.lines()).signed, [letter[1]])
+
+    def test_arguments_of_papers_and_of_the_court_by_their_names(self):
+        alone = module("committee").Committee([1])
+        letters = {block: [(0, ("prevote", 0, 0, block, None)), (0, ("precommit", 0, 0, block))] for block in "ab"}
+        book = module("book").Book(alone, 0)
+        for letter in letters["a"]:
+            book.add(letter)
+        paper = module("paper")
+        self.assertEqual(sorted(paper.commit_paper(book=book, block="a")), sorted(letters["a"]))
+        self.assertIs(paper.shows(committee=alone, height=0, block="a", letters=letters["a"]), True)
+        self.assertEqual(paper.shown_turn(committee=alone, height=0, block="a", letters=letters["a"]), 0)
+        one, other = ("a", letters["a"]), ("b", letters["b"])
+        self.assertEqual(len(paper.accuse(committee=alone, height=0, one=one, other=other)), 1)
+        court = module("court")
+        charge = court.charge_of(letters=letters["a"] + letters["b"], who=0)
+        self.assertIs(court.holds(charge=charge), True)
+        self.assertEqual(len(court.charges(committee=alone, letters=letters["a"] + letters["b"])), 1)
+        self.assertIs(court.holds(court.Charge(who=1, first=charge.first, second=charge.second)), False)
+
+    def test_arguments_of_commands_and_programs_by_their_names(self):
+        commands = module("commands")
+        self.assertEqual(commands.commands_of(block="w1x2"), [("w", 1, 2)])
+        self.assertEqual(commands.command_text(command=("w", 1, 2)), "w1x2")
+        self.assertEqual(commands.checked_text(command=("w", 1, 2)), "w1x2")
+        self.assertEqual(commands.block_of(commands=[("w", 1, 2)]), ("w1x2", 1))
+        ran = module("machine").run(code="gy", given=3, amount=0, store={})
+        self.assertEqual((ran.well, ran.store, ran.paid, ran.steps), (True, {}, 3, 2))
+
 
 class Outside(unittest.TestCase):
     def test_the_package_imports_only_itself_and_what_the_language_allows(self):
@@ -125,7 +204,13 @@ class Size(unittest.TestCase):
 def answers():
     made = module("committee").Committee([3, 1, 2])
     votes = module("votes")
+    book = module("book").Book(made, 0)
+    for who, turn in ((2, 0), (0, 0), (0, 1), (1, 1), (2, 1)):
+        book.add((who, votes.precommit(0, turn, "a")))
+        book.add((who, votes.prevote(0, turn, "a", None)))
     return (
+        book.letters(), book.certificates, book.commits, module("paper").commit_paper(book, "a"),
+        module("commands").commands_of("d1zg1uzw0x2"), vars(module("machine").run("g1uiy", 4, 9, {7: 7, 2: 1})),
         made.weights, made.size, made.total, made.weight_of([2, 0]), made.is_quorum([0, 2]), made.is_third([1]),
         made.leader(5, 9), votes.clash(votes.precommit(0, 0, "a"), votes.prevote(0, 1, "b", None)),
     )
