@@ -36,6 +36,8 @@ FUNCTIONS = {
         "commands_of": ["block"], "command_text": ["command"], "checked_text": ["command"], "block_of": ["commands"],
     },
     "machine": {"run": ["code", "given", "amount", "store"]},
+    "ledger": {"first_ledger": ["grants"], "after_command": ["ledger", "command"]},
+    "client": {"dispute": ["client", "other"]},
 }
 CLASSES = {
     "errors": {
@@ -70,6 +72,22 @@ CLASSES = {
     },
     "court": {"Charge": {"__init__": ["self", "who", "first", "second"]}},
     "machine": {"Run": {}},
+    "ledger": {"Ledger": {"__eq__": ["self", "other"]}},
+    "chain": {
+        "Chain": {
+            "__init__": ["self", "weights", "grants"], "height": ["self"], "committee": ["self"],
+            "extend": ["self", "block"],
+        },
+    },
+    "pool": {
+        "Pool": {"__init__": ["self"], "submit": ["self", "command"], "block": ["self"], "remove": ["self", "block"]},
+    },
+    "client": {
+        "Client": {
+            "__init__": ["self", "weights", "grants"], "follow": ["self", "block", "paper"],
+            "catch_up": ["self", "entries"],
+        },
+    },
 }
 LIBRARY = {"heapq", "math", "itertools", "collections"}
 OUTSIDE = {
@@ -163,6 +181,25 @@ class Interface(unittest.TestCase):
         ran = module("machine").run(code="gy", given=3, amount=0, store={})
         self.assertEqual((ran.well, ran.store, ran.paid, ran.steps), (True, {}, 3, 2))
 
+    def test_arguments_of_ledgers_chains_pools_and_clients_by_their_names(self):
+        ledger = module("ledger").first_ledger(grants=[5, 0])
+        found, done = module("ledger").after_command(ledger=ledger, command=("p", 0, 1, 2))
+        self.assertEqual((found.balances, found.codes, found.stores, done), ((3, 2), ("", ""), ((), ()), True))
+        chain = module("chain").Chain(weights=[1, 2], grants=[5, 0])
+        chain.extend(block="p0q1r2")
+        self.assertTrue(chain.ledgers[1] == found)
+        pool = module("pool").Pool()
+        pool.submit(command=("w", 0, 5))
+        self.assertEqual(pool.block(), "w0x5")
+        pool.remove(block="w0x5")
+        self.assertEqual(pool.waiting, [])
+        client = module("client").Client(weights=[1], grants=())
+        other = module("client").Client([1], ())
+        paper = [(0, ("prevote", 0, 0, "a", None)), (0, ("precommit", 0, 0, "a"))]
+        self.assertEqual(client.follow(block="a", paper=paper), 1)
+        self.assertEqual(other.catch_up(entries=[("a", paper), ("b", paper)]), 1)
+        self.assertIsNone(module("client").dispute(client=client, other=other))
+
 
 class Outside(unittest.TestCase):
     def test_the_package_imports_only_itself_and_what_the_language_allows(self):
@@ -208,7 +245,10 @@ def answers():
     for who, turn in ((2, 0), (0, 0), (0, 1), (1, 1), (2, 1)):
         book.add((who, votes.precommit(0, turn, "a")))
         book.add((who, votes.prevote(0, turn, "a", None)))
+    chain = module("chain").Chain([3, 1, 2], [9, 9])
+    chain.extend("d0zg1ugyzk1b0v4w1x5p0q1r6")
     return (
+        chain.receipts, chain.committee().weights, vars(chain.ledgers[-1]),
         book.letters(), book.certificates, book.commits, module("paper").commit_paper(book, "a"),
         module("commands").commands_of("d1zg1uzw0x2"), vars(module("machine").run("g1uiy", 4, 9, {7: 7, 2: 1})),
         made.weights, made.size, made.total, made.weight_of([2, 0]), made.is_quorum([0, 2]), made.is_third([1]),
