@@ -38,6 +38,10 @@ FUNCTIONS = {
     "machine": {"run": ["code", "given", "amount", "store"]},
     "ledger": {"first_ledger": ["grants"], "after_command": ["ledger", "command"]},
     "client": {"dispute": ["client", "other"]},
+    "archive": {"archive_lines": ["blocks", "papers"], "read_archive": ["weights", "grants", "lines"]},
+    "script": {
+        "event_line": ["event"], "read_event": ["line", "at"], "play": ["weights", "liars", "grants", "lines"],
+    },
 }
 CLASSES = {
     "errors": {
@@ -88,6 +92,24 @@ CLASSES = {
             "catch_up": ["self", "entries"],
         },
     },
+    "replica": {
+        "Replica": {
+            "__init__": ["self", "who", "chain", "journal"], "start": ["self"], "receive": ["self", "letter"],
+            "timeout": ["self"], "submit": ["self", "command"], "adopt": ["self", "block", "paper"],
+        },
+    },
+    "net": {
+        "Net": {
+            "__init__": ["self", "weights", "liars", "grants"], "deliver": ["self", "at", "to"],
+            "timeout": ["self", "to"], "inject": ["self", "letter"], "submit": ["self", "who", "command"],
+            "assist": ["self", "to", "source"], "crash": ["self", "who", "torn"], "chain": ["self", "who"],
+        },
+    },
+}
+# The whole interface: no module is missing above.
+MODULES = {
+    "errors", "committee", "votes", "wire", "plain", "book", "journal", "court", "paper", "commands", "machine",
+    "ledger", "chain", "pool", "client", "replica", "archive", "net", "script",
 }
 LIBRARY = {"heapq", "math", "itertools", "collections"}
 OUTSIDE = {
@@ -116,6 +138,9 @@ class Interface(unittest.TestCase):
                 made = getattr(module(name), word)
                 self.assert_defined(made, "tribunal." + name, inspect.isfunction)
                 self.assertEqual(list(inspect.signature(made).parameters), parameters, word)
+
+    def test_every_module_is_looked_at(self):
+        self.assertEqual(set(FUNCTIONS) | set(CLASSES), MODULES)
 
     def test_each_class_stands_in_its_module_with_its_own_methods(self):
         for name, classes in CLASSES.items():
@@ -200,6 +225,39 @@ class Interface(unittest.TestCase):
         self.assertEqual(other.catch_up(entries=[("a", paper), ("b", paper)]), 1)
         self.assertIsNone(module("client").dispute(client=client, other=other))
 
+    def test_arguments_of_keepers_and_archives_by_their_names(self):
+        chain, journal = module("chain").Chain([1, 1, 1], ()), module("journal").Journal(1)
+        keeper = module("replica").Replica(who=1, chain=chain, journal=journal)
+        self.assertEqual(keeper.start(), [])
+        keeper.submit(command=("w", 0, 5))
+        vote = (1, ("prevote", 0, 0, "a", None))
+        self.assertEqual(keeper.receive(letter=(0, ("proposal", 0, 0, "a"))), [vote])
+        paper = [(who, made) for who in range(3) for made in (vote[1], ("precommit", 0, 0, "a"))]
+        self.assertEqual(keeper.adopt(block="a", paper=paper)[0], (1, ("proposal", 1, 0, "w0x5")))
+        archive = module("archive")
+        lines = archive.archive_lines(blocks=["a"], papers=[paper])
+        self.assertEqual(archive.read_archive(weights=[1, 1, 1], grants=(), lines=lines), [("a", paper)])
+
+    def test_arguments_of_nets_and_scripts_by_their_names(self):
+        net = module("net").Net(weights=[1, 1, 1], liars=[2], grants=(7,))
+        net.deliver(at=0, to=1)
+        net.timeout(to=0)
+        net.inject(letter=(2, ("precommit", 0, 0, "a")))
+        net.submit(who=0, command=("w", 0, 5))
+        self.assertIs(net.assist(to=0, source=1), False)
+        net.crash(who=1, torn="")
+        self.assertEqual(net.chain(who=0), [])
+        script = module("script")
+        self.assertEqual(script.event_line(event=("crash", 1)), "crash 1")
+        self.assertEqual(script.read_event(line="crash 1", at=0), ("crash", 1))
+        lines = ["deliver 0 1", "timeout 0", "inject 2 precommit 0 0 a", "submit 0 w0x5", "assist 0 1", "crash 1"]
+        played = script.play(weights=[1, 1, 1], liars=[2], grants=(7,), lines=lines)
+        self.assertEqual((played.bag, played.history), (net.bag, net.history))
+
+    def test_the_grants_of_a_net_may_be_left_out(self):
+        parameter = inspect.signature(module("net").Net).parameters["grants"]
+        self.assertEqual(parameter.default, ())
+
 
 class Outside(unittest.TestCase):
     def test_the_package_imports_only_itself_and_what_the_language_allows(self):
@@ -247,8 +305,12 @@ def answers():
         book.add((who, votes.prevote(0, turn, "a", None)))
     chain = module("chain").Chain([3, 1, 2], [9, 9])
     chain.extend("d0zg1ugyzk1b0v4w1x5p0q1r6")
+    net = module("net").Net([3, 1, 2], [], [9])
+    for at in range(40):
+        for who in range(3):
+            net.deliver(at, who)
     return (
-        chain.receipts, chain.committee().weights, vars(chain.ledgers[-1]),
+        net.bag, net.history, chain.receipts, chain.committee().weights, vars(chain.ledgers[-1]),
         book.letters(), book.certificates, book.commits, module("paper").commit_paper(book, "a"),
         module("commands").commands_of("d1zg1uzw0x2"), vars(module("machine").run("g1uiy", 4, 9, {7: 7, 2: 1})),
         made.weights, made.size, made.total, made.weight_of([2, 0]), made.is_quorum([0, 2]), made.is_third([1]),
